@@ -1,0 +1,1 @@
+"""Wrappers round a function, and what must stand outside what."""
