@@ -5,7 +5,8 @@ import inspect
 import pathlib
 import unittest
 
-from outermost import errors, rows, stacks
+from outermost import errors, orders, papers, plays, rows, stacks, wishes
+from outermost.plays import Played, play
 from outermost.rows import Row
 from outermost.stacks import Stack
 
@@ -25,6 +26,20 @@ CLASSES = {
     stacks: {"Stack": "(rows=())"},
 }
 
+FUNCTIONS = {
+    plays: {"begun": "(stack)", "play": "(stack, events)"},
+    wishes: {
+        "keeps": "(stack, wish)", "kept_wishes": "(stack)", "breach": "(stack, wish)", "standings": "(stack)",
+        "most_tries": "(stack)",
+    },
+    papers: {"paper": "(stack, wish)", "paper_holds": "(stack, wish, value)"},
+    orders: {
+        "stack_of": "(lot, order)", "good": "(lot, wishes)", "outside": "(lot, wishes)", "is_one": "(lot, wishes)",
+        "clash": "(lot, wishes)", "clash_holds": "(lot, wishes, value)", "nearest": "(lot, order, wishes)",
+        "way": "(lot, x, y, wishes)",
+    },
+}
+
 METHODS = {
     Row: {"read": "(text)", "__eq__": None, "__str__": None},
     Stack: {
@@ -42,8 +57,17 @@ class InterfaceTest(unittest.TestCase):
                 self.assertEqual(made.__module__, module.__name__)
                 self.assertEqual(str(inspect.signature(made)), parameters, name)
 
-    def test_base_classes_are_defined_here(self):
+    def test_functions_and_their_arguments(self):
+        for module, functions in FUNCTIONS.items():
+            for name, parameters in functions.items():
+                made = getattr(module, name)
+                self.assertTrue(inspect.isfunction(made), name)
+                self.assertEqual(made.__module__, module.__name__)
+                self.assertEqual(str(inspect.signature(made)), parameters, name)
+
+    def test_other_classes_are_defined_here(self):
         self.assertEqual(errors.WrapError.__module__, "outermost.errors")
+        self.assertEqual(Played.__module__, "outermost.plays")
         self.assertEqual(Row.__module__, "outermost.rows")
 
     def test_methods_stand_in_the_class_itself(self):
@@ -63,6 +87,8 @@ class InterfaceTest(unittest.TestCase):
         self.assertEqual(vars(rows.Limit(5)), {"many": 5})
         self.assertEqual(vars(rows.Soft("all")), {"on": "all"})
         self.assertEqual(vars(Stack()), {"rows": ()})
+        self.assertEqual(vars(play(Stack(), ())), {
+            "answers": (), "tries": (), "counts": (), "given": (), "behind": (), "broken": ()})
 
     def test_init_is_empty_but_for_a_docstring(self):
         body = ast.parse((PACKAGE / "__init__.py").read_text(encoding="ascii")).body

@@ -56,6 +56,12 @@ def bound_names(tree):
             yield node.id
 
 
+def imported_files():
+    """For each file the files of the package that it imports from."""
+    return {path.stem: {node.module.split(".")[1] for node in ast.walk(tree) if isinstance(node, ast.ImportFrom)}
+            for path, text, tree in files()}
+
+
 class LanguageTest(unittest.TestCase):
     def test_l1_l14_files(self):
         for path in PACKAGE.rglob("*"):
@@ -70,6 +76,34 @@ class LanguageTest(unittest.TestCase):
         for path, text, tree in files():
             kinds = [isinstance(node, ast.ImportFrom) for node in tree.body[1:]]
             self.assertEqual(kinds, sorted(kinds, reverse=True), path.name)
+
+    def test_l16_no_two_files_import_from_each_other(self):
+        left = imported_files()
+        while left:
+            last = [name for name, others in left.items() if not others & set(left)]
+            self.assertTrue(last, left)
+            for name in last:
+                del left[name]
+
+    def test_l16_imports_name_the_file_that_defines_the_name(self):
+        defined = {}
+        for path, text, tree in files():
+            targets = [node.targets[0].id for node in tree.body if isinstance(node, ast.Assign)]
+            defs = [node.name for node in tree.body if isinstance(node, (ast.FunctionDef, ast.ClassDef))]
+            self.assertEqual(len(targets + defs), len(set(targets + defs)), path.name)
+            defined["outermost." + path.stem] = set(targets + defs)
+        for place, node in nodes(ast.ImportFrom):
+            for alias in node.names:
+                self.assertIn(alias.name, defined[node.module], place)
+
+    def test_l15_no_local_name_is_that_of_a_class_or_an_import(self):
+        for path, text, tree in files():
+            taken = {alias.name for node in tree.body if isinstance(node, ast.ImportFrom) for alias in node.names}
+            taken |= {node.name for node in tree.body if isinstance(node, ast.ClassDef)}
+            for node in ast.walk(tree):
+                if isinstance(node, (ast.FunctionDef, ast.Lambda)):
+                    names = {name for name in bound_names(node) if name != getattr(node, "name", None)}
+                    self.assertEqual(names & taken, set(), f"{path.name}:{node.lineno}")
 
     def test_l3_module_level(self):
         allowed = (ast.ImportFrom, ast.FunctionDef, ast.ClassDef, ast.Assign)
@@ -131,6 +165,18 @@ class LanguageTest(unittest.TestCase):
             for sign, side in zip(node.ops, node.comparators):
                 if isinstance(sign, (ast.Is, ast.IsNot)):
                     self.assertTrue(isinstance(side, ast.Constant) and side.value in (None, True, False), place)
+
+    def test_l7_no_generator_expressions(self):
+        # They are let in some places only; lists are let in all of them.
+        self.assertEqual([place for place, node in nodes(ast.GeneratorExp)], [])
+
+    def test_l21_no_annotations(self):
+        self.assertEqual([place for place, node in nodes(ast.AnnAssign)], [])
+        self.assertEqual([place for place, node in nodes(ast.arg) if node.annotation], [])
+        self.assertEqual([place for place, node in nodes(ast.FunctionDef) if node.returns], [])
+
+    def test_l24_no_sets(self):
+        self.assertEqual([place for place, node in nodes((ast.Set, ast.SetComp))], [])
 
     def test_l7_l27_numbers_and_strings(self):
         self.assertEqual([place for place, node in nodes(ast.Div)], [])

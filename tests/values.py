@@ -1,6 +1,7 @@
 """Values that several tests try."""
 
 from outermost.errors import InvalidRow, NoRow, WrapError
+from outermost.plays import play
 from outermost.rows import Count, Keep, Leave, Lend, Limit, Soft, Tries
 from outermost.stacks import Stack
 
@@ -62,7 +63,7 @@ def other_values():
         "", " ", "0", "1", "good", "all", "fault", "ever", "leave", "tick", "\n", "GOOD", "all ",
         [None], (0,), (1,), [True], ["good"], ("all", 1), ["leave"], [[]], ((),), [Stack()], [[Leave()]],
         nested(0, 8), nested("good", 8), nested(Leave(), 8),
-        Stack(), Stack([Leave()]), InvalidRow("what"), NoRow(0), WrapError(),
+        Stack(), Stack([Leave()]), InvalidRow("what"), NoRow(0), WrapError(), play(Stack(), ["in ok"]),
     ]
 
 
