@@ -3,7 +3,7 @@
 from outermost.breaks import check_wishes
 from outermost.errors import InvalidOrder
 from outermost.search import reached, trail
-from outermost.stacks import Stack, rows_of
+from outermost.stacks import Stack, exchanged, rows_of
 from outermost.values import is_integer
 from outermost.wishes import keeps_all
 
@@ -127,11 +127,6 @@ def pairs_in_all(found):
 def differences(order, other):
     """How many pairs stand the other way round in another order."""
     return len([i for i, j in pairs_of(order) if stands_outside(other, j, i)])
-
-
-def exchanged(order, at):
-    """An order with the thing at a place and the next one exchanged."""
-    return (*order[:at], order[at + 1], order[at], *order[at + 2:])
 
 
 def is_clash(found, x, y, at):

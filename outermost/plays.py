@@ -37,23 +37,31 @@ def play(stack, events):
     standing = begun(stack)
     calls = []
     for at, event in enumerate(events):
-        if event == "tick":
-            standing = ticked(standing)
-            calls.append(None)
-        else:
-            call = call_of(stack, standing, event)
-            if call is None:
-                raise InvalidEvent(at)
-            standing = call.behind
-            calls.append(call)
+        call, standing = happen(stack, standing, event, at)
+        calls.append(call)
     return played(stack, calls, standing)
+
+
+def happen(stack, standing, event, at):
+    """The call that an event is (None for a tick), and the standing behind it; InvalidEvent(at) if it is none."""
+    if event == "tick":
+        return None, ticked(standing)
+    call = call_of(stack, standing, event)
+    if call is None:
+        raise InvalidEvent(at)
+    return call, call.behind
+
+
+def answer_of(call):
+    """The answer of a call; None for a tick."""
+    return None if call is None else call.answer
 
 
 def played(stack, calls, behind):
     """What came of the calls, with None in the place of each tick."""
     numbered = [(at, call) for at, call in enumerate(calls) if call is not None]
     return Played(
-        answers=tuple([None if call is None else call.answer for call in calls]),
+        answers=tuple([answer_of(call) for call in calls]),
         tries=tuple([0 if call is None else call.tries for call in calls]),
         counts=counted(stack, [call for at, call in numbered]),
         given=tuple([(at, row, word) for at, call in numbered for row, word, is_old in call.given]),

@@ -26,9 +26,7 @@ class Stack:
     def swapped(self, at):
         """This stack with the row at an index and the next one exchanged."""
         check_index(at, len(self.rows) - 1)
-        rows = list(self.rows)
-        rows[at], rows[at + 1] = rows[at + 1], rows[at]
-        return Stack(rows)
+        return Stack(exchanged(self.rows, at))
 
     def put(self, at, row):
         """This stack with one more row, which has this index then."""
@@ -85,3 +83,8 @@ def check_index(at, many):
     """NoRow unless this is one of so many indexes. Those below 0 are none, though Python would count from the end."""
     if not 0 <= at < many:
         raise NoRow(at)
+
+
+def exchanged(things, at):
+    """A tuple with the thing at an index and the next one exchanged."""
+    return (*things[:at], things[at + 1], things[at], *things[at + 2:])

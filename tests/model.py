@@ -252,3 +252,108 @@ def way_length(found, x, y):
             return None
         reached, length = more, length + 1
     return length
+
+
+def kept(texts, wishes):
+    """Those of some wishes that a stack keeps."""
+    facts = Facts(texts)
+    return {wish for wish in wishes if facts.keeps(wish)}
+
+
+def enough(must, spares, wishes):
+    """The first of the smallest sets of spares that, put to the others, have a good order."""
+    for many in range(len(spares) + 1):
+        for chosen in itertools.combinations(range(len(spares)), many):
+            if good([*must, *(spares[at] for at in chosen)], wishes):
+                return chosen
+    return None
+
+
+def needless(texts, wishes):
+    """The indexes of the rows that can be taken off."""
+    return tuple(at for at in range(len(texts)) if kept(texts[:at] + texts[at + 1:], wishes) == kept(texts, wishes))
+
+
+def twice(texts, wishes):
+    """The indexes of the rows that can be put on once more."""
+    return tuple(at for at in range(len(texts)) if kept(texts[:at + 1] + texts[at:], wishes) == kept(texts, wishes))
+
+
+def seen(run):
+    """What is seen of a call from outside."""
+    return f"{run.caller} {run.answer}"
+
+
+def fits(texts, log, standing=None):
+    """Whether some inner function brings a log, from the beginning if no standing is given."""
+    standing = standing or begun(texts)
+    if not log:
+        return True
+    if log[0] == "tick":
+        return fits(texts, log[1:], ticked(standing))
+    return any(fits(texts, log[1:], run.behind) for run in runs_from(texts, standing) if seen(run) == log[0])
+
+
+def first_misfit(texts, log):
+    """The index of the first thing behind which a log fits no more."""
+    return next((at for at in range(len(log)) if not fits(texts, log[:at + 1])), None)
+
+
+def fitting(texts, log):
+    """The orders of a lot that a log fits, ascending."""
+    return [order for order in itertools.permutations(range(len(texts))) if fits([texts[at] for at in order], log)]
+
+
+THINGS = tuple(f"{caller} {answer}" for caller in ("out", "in") for answer in ("ok", "spare", "fault", "late", "denied"))
+
+
+def telling(texts, longest):
+    """The first of the shortest logs of calls that fits to some orders, but not to all."""
+    for length in range(1, longest + 1):
+        for log in sorted(itertools.product(THINGS, repeat=length)):
+            if len(fitting(texts, log)) not in (0, len(list(itertools.permutations(texts)))):
+                return log
+    return None
+
+
+class Work:
+    """A stack at work: pairs of a row and what it has kept, and what was ahead of each deed."""
+
+    def __init__(self, texts):
+        self.pairs = [[text, None] for text in texts]
+        self.events = []
+        self.past = []
+
+    def facts(self):
+        """What a live stack tells of itself."""
+        return ("\n".join(text for text, kept in self.pairs), tuple(kept for text, kept in self.pairs),
+                tuple(self.events), len(self.past))
+
+    def deed(self):
+        """To be called ahead of each deed."""
+        self.past.append(([list(pair) for pair in self.pairs], list(self.events)))
+
+    def undo(self):
+        if not self.past:
+            return False
+        self.pairs, self.events = self.past.pop()
+        return True
+
+    def possible(self):
+        """All events that can happen now, ascending."""
+        runs = runs_from([text for text, kept in self.pairs], [kept for text, kept in self.pairs])
+        return ["tick"] + sorted(" ".join([run.caller, *run.outcomes]) for run in runs)
+
+    def happen(self, event):
+        """Does a right event; the answer."""
+        self.events.append(event)
+        texts, standing = [text for text, kept in self.pairs], [kept for text, kept in self.pairs]
+        if event == "tick":
+            behind, answer = ticked(standing), None
+        else:
+            caller, *outcomes = event.split(" ")
+            run = Run(texts, standing, caller, outcomes)
+            behind, answer = run.behind, run.answer
+        for pair, kept in zip(self.pairs, behind):
+            pair[1] = kept
+        return answer

@@ -37,13 +37,26 @@ EXAMPLES = r'''
     (True, (0, 2, 1))
     >>> way(three, (0, 2, 1), (2, 1, 0), ["calm"])
     ((0, 2, 1), (0, 1, 2), (1, 0, 2), (1, 2, 0), (2, 1, 0))
+
+    >>> from outermost.lots import enough, needless, twice
+    >>> enough([Row.read("keep all ever")], [Row.read("leave"), Row.read("count"), Row.read("soft all")], ["kept", "leave"])
+    (0, 2)
+    >>> needless(Stack.read("soft all\ntries 2 fault"), ["calm"]), twice(Stack.read("tries 2 fault\ncount"), ["bound 2"])
+    ((1,), (1,))
+
+    >>> from outermost.logs import first_misfit, fitting, surely_outside, telling
+    >>> hidden = [Row.read("leave"), Row.read("keep good ever")]
+    >>> fitting(hidden, ["in ok", "out ok"]), surely_outside(hidden, ["in ok", "out ok"]), telling(hidden, 2)
+    (((1, 0),), ((1, 0),), ('in ok', 'out denied'))
+    >>> first_misfit(Stack.read("keep all ever"), ["in fault", "in ok"])
+    1
 '''
 
 
 class DocumentTest(unittest.TestCase):
     def test_examples(self):
         examples = doctest.DocTestParser().get_doctest(EXAMPLES, {}, "examples", "DOC.md", 0)
-        self.assertEqual(len(examples.examples), 20)
+        self.assertEqual(len(examples.examples), 27)
         told = []
         result = doctest.DocTestRunner(verbose=False).run(examples, out=told.append)
         self.assertEqual((result.failed, "".join(told)), (0, ""))

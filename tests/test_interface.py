@@ -5,7 +5,9 @@ import inspect
 import pathlib
 import unittest
 
-from outermost import errors, orders, papers, plays, rows, stacks, wishes
+from outermost import desk, errors, live, logs, lots, orders, papers, plays, rows, stacks, wishes
+from outermost.desk import Desk
+from outermost.live import Live
 from outermost.plays import Played, play
 from outermost.rows import Row
 from outermost.stacks import Stack
@@ -24,6 +26,8 @@ CLASSES = {
         "Soft": "(on='fault')", "Count": "()", "Lend": "()",
     },
     stacks: {"Stack": "(rows=())"},
+    live: {"Live": "(stack)"},
+    desk: {"Desk": "()"},
 }
 
 FUNCTIONS = {
@@ -38,6 +42,11 @@ FUNCTIONS = {
         "clash": "(lot, wishes)", "clash_holds": "(lot, wishes, value)", "nearest": "(lot, order, wishes)",
         "way": "(lot, x, y, wishes)",
     },
+    lots: {"enough": "(must, spares, wishes)", "needless": "(stack, wishes)", "twice": "(stack, wishes)"},
+    logs: {
+        "fits": "(stack, log)", "first_misfit": "(stack, log)", "fitting": "(lot, log)", "surely_outside": "(lot, log)",
+        "telling": "(lot, longest)",
+    },
 }
 
 METHODS = {
@@ -46,6 +55,12 @@ METHODS = {
         "read": "(text)", "without": "(self, at)", "swapped": "(self, at)", "put": "(self, at, row)",
         "__add__": None, "__len__": None, "__getitem__": None, "__eq__": None, "__str__": None,
     },
+    Live: {
+        "do": "(self, event)", "several": "(self, events)", "put": "(self, at, row)", "take_off": "(self, at)",
+        "swap": "(self, at)", "undo": "(self)", "trial": "(self)", "within": "(self, work)", "__len__": None,
+        "stack": None, "standing": None, "events": None,
+    },
+    Desk: {"say": "(self, command)"},
 }
 
 
@@ -89,6 +104,11 @@ class InterfaceTest(unittest.TestCase):
         self.assertEqual(vars(Stack()), {"rows": ()})
         self.assertEqual(vars(play(Stack(), ())), {
             "answers": (), "tries": (), "counts": (), "given": (), "behind": (), "broken": ()})
+
+    def test_properties_and_live(self):
+        for name in ("stack", "standing", "events"):
+            self.assertIsInstance(vars(Live)[name], property)
+        self.assertEqual(vars(Desk()), {"live": None})
 
     def test_init_is_empty_but_for_a_docstring(self):
         body = ast.parse((PACKAGE / "__init__.py").read_text(encoding="ascii")).body
